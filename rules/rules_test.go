@@ -1,0 +1,120 @@
+// Package rules has the tests of the rules that hold for the code of all layers.
+package rules
+
+import (
+	"go/ast"
+	"go/parser"
+	"go/token"
+	"path/filepath"
+	"slices"
+	"strings"
+	"testing"
+)
+
+// layers in their order: each calls only those ahead of it.
+var layers = strings.Fields(`tape tag name role cred keys vault model check chain
+	formula parse normal sets guard unlock msg frame seq gate
+	eager graph thrift caps session net treaty outcome twin lone
+	lint least audit revoke pact report story weigh trace strand
+	merge ticket stuck drive sieve log census script market change
+	tree`)
+
+// library that layers may import.
+var library = strings.Fields(`bytes cmp container/heap errors iter maps math math/bits slices
+	sort strconv strings sync sync/atomic unicode unicode/utf8`)
+
+// ways of the language that a layer leans on.
+var ways = map[string][]string{
+	"tape": {"panic", "defer", "recover", "assertion"},
+}
+
+// source files of a layer, tests aside.
+func source(t *testing.T, layer string) map[string]*ast.File {
+	t.Helper()
+	paths, err := filepath.Glob(filepath.Join("..", layer, "*.go"))
+	if err != nil {
+		t.Fatal(err)
+	}
+	files := map[string]*ast.File{}
+	for _, path := range paths {
+		if strings.HasSuffix(path, "_test.go") {
+			continue
+		}
+		files[path], err = parser.ParseFile(token.NewFileSet(), path, nil, parser.ParseComments)
+		if err != nil {
+			t.Fatal(err)
+		}
+	}
+	if len(files) == 0 {
+		t.Fatalf("layer %s has no files", layer)
+	}
+	return files
+}
+
+// A layer imports only what the language's rules let it, and of the layers only those below it.
+func TestImports(t *testing.T) {
+	for at, layer := range layers {
+		for path, file := range source(t, layer) {
+			for _, spec := range file.Imports {
+				name := strings.Trim(spec.Path.Value, `"`)
+				own, inside := strings.CutPrefix(name, "entente/")
+				if !inside && !slices.Contains(library, name) {
+					t.Errorf("%s imports %s", path, name)
+				}
+				if inside && slices.Index(layers, own) >= at {
+					t.Errorf("%s imports %s, which isn't below it", path, name)
+				}
+			}
+		}
+	}
+}
+
+// No go: line and no build tag.
+func TestNoDirectives(t *testing.T) {
+	for _, layer := range layers {
+		for path, file := range source(t, layer) {
+			for _, group := range file.Comments {
+				for _, c := range group.List {
+					if strings.HasPrefix(c.Text, "//go:") || strings.HasPrefix(c.Text, "// +build") {
+						t.Errorf("%s has %s", path, c.Text)
+					}
+				}
+			}
+		}
+	}
+}
+
+// way of the language that a node is, or nothing.
+func way(n ast.Node) string {
+	switch x := n.(type) {
+	case *ast.DeferStmt:
+		return "defer"
+	case *ast.TypeAssertExpr:
+		if x.Type != nil {
+			return "assertion"
+		}
+	case *ast.CallExpr:
+		if f, ok := x.Fun.(*ast.Ident); ok && (f.Name == "panic" || f.Name == "recover") {
+			return f.Name
+		}
+	}
+	return ""
+}
+
+// Each layer leans on the ways that the document asks of it.
+func TestWays(t *testing.T) {
+	for layer, wanted := range ways {
+		has := map[string]bool{}
+		for _, file := range source(t, layer) {
+			ast.Inspect(file, func(n ast.Node) bool {
+				has[way(n)] = true
+				return true
+			})
+		}
+		for _, w := range wanted {
+			if !has[w] {
+				t.Errorf("layer %s has no %s", layer, w)
+			}
+		}
+	}
+}
