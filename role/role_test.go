@@ -258,32 +258,55 @@ func TestSetOfNone(t *testing.T) {
 		if got := role.Set(l...); len(got) != 0 {
 			t.Errorf("%.40q: %q", l, got)
 		}
-		if role.Has(l, of("a", "b")) || role.Has(l, api.Role{}) {
-			t.Errorf("%.40q has something", l)
-		}
 	}
 	if len(role.Set()) != 0 {
 		t.Error("the set of nothing")
 	}
 }
 
-// P4.1: what a list has, however it is ordered; a wrong one it has never.
+// P4.1: what a list has, however it is ordered, right or not.
 func TestHas(t *testing.T) {
 	in := roles(t, "shop.member a.b shop.member gov.id")
 	l := slices.Concat(wrong(), in, wrong())
+	for _, r := range l {
+		if !role.Has(l, r) || !role.Has([]api.Role{r}, r) {
+			t.Errorf("%.40q isn't there", r)
+		}
+	}
 	for _, r := range in {
-		if !role.Has(l, r) || !role.Has(in, r) || !role.Has(role.Set(l...), r) {
+		if !role.Has(in, r) || !role.Has(role.Set(l...), r) {
 			t.Errorf("%q isn't there", r)
 		}
 	}
-	for _, r := range slices.Concat(wrong(), roles(t, "b.a a.a b.b a.id gov.member shop.membe shop.members id.gov"), []api.Role{{}}) {
-		if role.Has(l, r) || role.Has(in, r) || role.Has(nil, r) {
+	for _, r := range wrong() {
+		if role.Has(in, r) || role.Has(role.Set(l...), r) {
 			t.Errorf("%.40q is there", r)
 		}
 	}
 }
 
-// P4.1: of all small lists, the set has just what the list has.
+// P4.1: what a list hasn't, right or not.
+func TestHasNot(t *testing.T) {
+	in := roles(t, "shop.member a.b gov.id")
+	l := slices.Concat(wrong(), in, wrong())
+	absent := []api.Role{of("shop", ""), of("", "member"), of("gov", "ID"), of("shop.member", "a"), of("shop", "member."), of("", "shop.member"), of("shop ", "member")}
+	for _, r := range slices.Concat(absent, roles(t, "b.a a.a b.b a.id gov.member shop.membe shop.members id.gov")) {
+		if role.Has(l, r) || role.Has(in, r) {
+			t.Errorf("%q is there", r)
+		}
+	}
+	for _, r := range slices.Concat(in, wrong()) {
+		if role.Has(nil, r) || role.Has([]api.Role{}, r) {
+			t.Errorf("%.40q is in nothing", r)
+		}
+	}
+	// Unlike roles that have the same text.
+	if role.Has([]api.Role{of("a.b", "c")}, of("a", "b.c")) || role.Has([]api.Role{of("", "a.")}, of(".a", "")) {
+		t.Error("a role is there by its text alone")
+	}
+}
+
+// P4.1: of all small lists, the set has just what right ones the list has.
 func TestAllSmallLists(t *testing.T) {
 	all := []api.Role{of("b", "a"), of("a", "b"), {}, of("a", "B"), of("a-", "a"), of("b", "a"), of("a", "a")}
 	for bits := range 1 << len(all) {
@@ -300,9 +323,13 @@ func TestAllSmallLists(t *testing.T) {
 			}
 		}
 		for _, r := range all {
-			want := slices.Contains(l, r) && role.Right(r)
-			if role.Has(l, r) != want || slices.Contains(set, r) != want {
+			want := slices.Contains(l, r)
+			if role.Has(l, r) != want {
 				t.Errorf("%q: %q is in it: not %v", l, r, want)
+			}
+			want = want && role.Right(r)
+			if slices.Contains(set, r) != want || role.Has(set, r) != want {
+				t.Errorf("%q: %q is in its set: not %v", l, r, want)
 			}
 		}
 	}
