@@ -25,7 +25,8 @@ var library = strings.Fields(`bytes cmp container/heap errors iter maps math mat
 
 // ways of the language that a layer leans on.
 var ways = map[string][]string{
-	"tape": {"panic", "defer", "recover", "assertion"},
+	"tape":  {"panic", "defer", "recover", "assertion"},
+	"vault": {"range-function", "closure"},
 }
 
 // source files of a layer, tests aside.
@@ -89,6 +90,12 @@ func way(n ast.Node) string {
 	switch x := n.(type) {
 	case *ast.DeferStmt:
 		return "defer"
+	case *ast.FuncLit:
+		return "closure"
+	case *ast.RangeStmt:
+		if isIterator(x.X) {
+			return "range-function"
+		}
 	case *ast.TypeAssertExpr:
 		if x.Type != nil {
 			return "assertion"
@@ -99,6 +106,16 @@ func way(n ast.Node) string {
 		}
 	}
 	return ""
+}
+
+// isIterator tells whether an expression calls an All, which answers an iterator wherever there is one.
+func isIterator(x ast.Expr) bool {
+	call, ok := x.(*ast.CallExpr)
+	if !ok {
+		return false
+	}
+	f, ok := call.Fun.(*ast.SelectorExpr)
+	return ok && f.Sel.Name == "All"
 }
 
 // Each layer leans on the ways that the document asks of it.
