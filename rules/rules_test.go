@@ -27,6 +27,7 @@ var library = strings.Fields(`bytes cmp container/heap errors iter maps math mat
 var ways = map[string][]string{
 	"tape":  {"panic", "defer", "recover", "assertion"},
 	"vault": {"range-function", "closure"},
+	"model": {"map", "range-map", "struct-compared"},
 }
 
 // source files of a layer, tests aside.
@@ -85,27 +86,56 @@ func TestNoDirectives(t *testing.T) {
 	}
 }
 
-// way of the language that a node is, or nothing.
-func way(n ast.Node) string {
+// found ways of the language: those that a node is. The fields are those of the layer that are maps.
+func found(n ast.Node, fields map[string]bool) []string {
 	switch x := n.(type) {
 	case *ast.DeferStmt:
-		return "defer"
+		return []string{"defer"}
 	case *ast.FuncLit:
-		return "closure"
+		return []string{"closure"}
 	case *ast.RangeStmt:
 		if isIterator(x.X) {
-			return "range-function"
+			return []string{"range-function"}
 		}
+		if f, ok := x.X.(*ast.SelectorExpr); ok && fields[f.Sel.Name] {
+			return []string{"range-map"}
+		}
+	case *ast.MapType:
+		// A map holds its keys against each other, and those of package api are structs, but for its errors.
+		if key, ok := x.Key.(*ast.SelectorExpr); ok && key.Sel.Name != "Errno" {
+			return []string{"map", "struct-compared"}
+		}
+		return []string{"map"}
 	case *ast.TypeAssertExpr:
 		if x.Type != nil {
-			return "assertion"
+			return []string{"assertion"}
 		}
 	case *ast.CallExpr:
 		if f, ok := x.Fun.(*ast.Ident); ok && (f.Name == "panic" || f.Name == "recover") {
-			return f.Name
+			return []string{f.Name}
 		}
 	}
-	return ""
+	return nil
+}
+
+// mapFields of a layer's structs: the names of those that are maps.
+func mapFields(files map[string]*ast.File) map[string]bool {
+	fields := map[string]bool{}
+	for _, file := range files {
+		ast.Inspect(file, func(n ast.Node) bool {
+			f, ok := n.(*ast.Field)
+			if !ok {
+				return true
+			}
+			if _, ok := f.Type.(*ast.MapType); ok {
+				for _, name := range f.Names {
+					fields[name.Name] = true
+				}
+			}
+			return true
+		})
+	}
+	return fields
 }
 
 // isIterator tells whether an expression calls an All, which answers an iterator wherever there is one.
@@ -122,9 +152,13 @@ func isIterator(x ast.Expr) bool {
 func TestWays(t *testing.T) {
 	for layer, wanted := range ways {
 		has := map[string]bool{}
-		for _, file := range source(t, layer) {
+		files := source(t, layer)
+		fields := mapFields(files)
+		for _, file := range files {
 			ast.Inspect(file, func(n ast.Node) bool {
-				has[way(n)] = true
+				for _, w := range found(n, fields) {
+					has[w] = true
+				}
 				return true
 			})
 		}
