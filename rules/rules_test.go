@@ -28,6 +28,7 @@ var ways = map[string][]string{
 	"tape":  {"panic", "defer", "recover", "assertion"},
 	"vault": {"range-function", "closure"},
 	"model": {"map", "range-map", "struct-compared"},
+	"parse": {"type-switch", "method-value"},
 }
 
 // source files of a layer, tests aside.
@@ -86,8 +87,8 @@ func TestNoDirectives(t *testing.T) {
 	}
 }
 
-// found ways of the language: those that a node is. The fields are those of the layer that are maps.
-func found(n ast.Node, fields map[string]bool) []string {
+// found ways of the language: those that a node is. The maps are the fields of the layer that are maps, the methods its methods.
+func found(n ast.Node, maps, methods map[string]bool) []string {
 	switch x := n.(type) {
 	case *ast.DeferStmt:
 		return []string{"defer"}
@@ -97,7 +98,7 @@ func found(n ast.Node, fields map[string]bool) []string {
 		if isIterator(x.X) {
 			return []string{"range-function"}
 		}
-		if f, ok := x.X.(*ast.SelectorExpr); ok && fields[f.Sel.Name] {
+		if f, ok := x.X.(*ast.SelectorExpr); ok && maps[f.Sel.Name] {
 			return []string{"range-map"}
 		}
 	case *ast.MapType:
@@ -106,6 +107,8 @@ func found(n ast.Node, fields map[string]bool) []string {
 			return []string{"map", "struct-compared"}
 		}
 		return []string{"map"}
+	case *ast.TypeSwitchStmt:
+		return []string{"type-switch"}
 	case *ast.TypeAssertExpr:
 		if x.Type != nil {
 			return []string{"assertion"}
@@ -114,8 +117,30 @@ func found(n ast.Node, fields map[string]bool) []string {
 		if f, ok := x.Fun.(*ast.Ident); ok && (f.Name == "panic" || f.Name == "recover") {
 			return []string{f.Name}
 		}
+		if slices.ContainsFunc(x.Args, func(arg ast.Expr) bool { return isMethod(arg, methods) }) {
+			return []string{"method-value"}
+		}
 	}
 	return nil
+}
+
+// isMethod tells whether an expression is a method that is handed on, not called.
+func isMethod(x ast.Expr, methods map[string]bool) bool {
+	f, ok := x.(*ast.SelectorExpr)
+	return ok && methods[f.Sel.Name]
+}
+
+// methodNames of a layer.
+func methodNames(files map[string]*ast.File) map[string]bool {
+	names := map[string]bool{}
+	for _, file := range files {
+		for _, d := range file.Decls {
+			if f, ok := d.(*ast.FuncDecl); ok && f.Recv != nil {
+				names[f.Name.Name] = true
+			}
+		}
+	}
+	return names
 }
 
 // mapFields of a layer's structs: the names of those that are maps.
@@ -153,10 +178,10 @@ func TestWays(t *testing.T) {
 	for layer, wanted := range ways {
 		has := map[string]bool{}
 		files := source(t, layer)
-		fields := mapFields(files)
+		maps, methods := mapFields(files), methodNames(files)
 		for _, file := range files {
 			ast.Inspect(file, func(n ast.Node) bool {
-				for _, w := range found(n, fields) {
+				for _, w := range found(n, maps, methods) {
 					has[w] = true
 				}
 				return true
