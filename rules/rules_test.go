@@ -29,6 +29,7 @@ var ways = map[string][]string{
 	"vault": {"range-function", "closure"},
 	"model": {"map", "range-map", "struct-compared"},
 	"parse": {"type-switch", "method-value"},
+	"guard": {"promoted"},
 }
 
 // source files of a layer, tests aside.
@@ -90,6 +91,10 @@ func TestNoDirectives(t *testing.T) {
 // found ways of the language: those that a node is. The maps are the fields of the layer that are maps, the methods its methods.
 func found(n ast.Node, maps, methods map[string]bool) []string {
 	switch x := n.(type) {
+	case *ast.FuncDecl:
+		if asksInner(x) {
+			return []string{"promoted"}
+		}
 	case *ast.DeferStmt:
 		return []string{"defer"}
 	case *ast.FuncLit:
@@ -122,6 +127,28 @@ func found(n ast.Node, maps, methods map[string]bool) []string {
 		}
 	}
 	return nil
+}
+
+// asksInner tells whether a function asks a parameter, a guarded credential, for what that has in its inner parts.
+func asksInner(f *ast.FuncDecl) bool {
+	guarded := map[string]bool{}
+	for _, field := range f.Type.Params.List {
+		if t, ok := field.Type.(*ast.SelectorExpr); ok && t.Sel.Name == "Guarded" {
+			for _, name := range field.Names {
+				guarded[name.Name] = true
+			}
+		}
+	}
+	asks := false
+	ast.Inspect(f, func(n ast.Node) bool {
+		if x, ok := n.(*ast.SelectorExpr); ok {
+			of, ok := x.X.(*ast.Ident)
+			own := x.Sel.Name == "Signed" || x.Sel.Name == "Release"
+			asks = asks || ok && guarded[of.Name] && !own
+		}
+		return true
+	})
+	return asks
 }
 
 // isMethod tells whether an expression is a method that is handed on, not called.
